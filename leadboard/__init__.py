@@ -1,0 +1,1 @@
+"""Leadboard: rankings whose neighbours change places only by a lead."""
