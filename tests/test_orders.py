@@ -234,7 +234,8 @@ class WalkOrders(unittest.TestCase):
         self.assertEqual(list(walk_orders(1, [7, 7, 7], [2, 0, 1])), [[2, 0, 1]])
 
     def test_the_least_and_not_another_wrong_place(self):
-        self.assertEqual(list(walk_orders(1, [1, 2, 1, 2], O)), [[0, 1, 2, 3], [1, 0, 2, 3], [1, 0, 3, 2], [1, 3, 0, 2]])
+        expected = [[0, 1, 2, 3], [1, 0, 2, 3], [1, 0, 3, 2], [1, 3, 0, 2]]
+        self.assertEqual(list(walk_orders(1, [1, 2, 1, 2], O)), expected)
 
     def test_28_entries_upside_down(self):
         ascending = list(range(28))
