@@ -1,9 +1,11 @@
 """Tells whether arguments are what they must be, and raises the error that belongs to each parameter."""
 
-from leadboard.errors import InvalidEntryError, InvalidLeadError, InvalidNumberError, InvalidOrderError
-from leadboard.errors import InvalidScoresError
+from leadboard.errors import InvalidEntryError, InvalidLeadError, InvalidLiftsError, InvalidNumberError
+from leadboard.errors import InvalidOrderError, InvalidScoresError, NotSettledError
+from leadboard.exchanges import wrong_places_of
 
 MOST_ENTRIES = 28
+MOST_LIFTS = 100
 
 
 def is_integer(value):
@@ -35,6 +37,13 @@ def is_order_of(many, value):
     return sorted(value) == list(range(many))
 
 
+def are_lifts(many, value):
+    """Whether any value is a list of 0 to 100 of the entries from 0 to less than many."""
+    if not is_list(value) or len(value) > MOST_LIFTS:
+        return False
+    return all([is_index(item, many) for item in value])
+
+
 def check_lead(lead):
     if not is_integer(lead) or lead < 1:
         raise InvalidLeadError("a lead is an integer from 1 on")
@@ -50,9 +59,27 @@ def check_order(scores, order):
         raise InvalidOrderError("an order is a list of all entries, each once")
 
 
+def check_settled(lead, scores, order):
+    """Checks an order that must also be settled."""
+    check_order(scores, order)
+    wrong = wrong_places_of(lead, scores, order)
+    if wrong:
+        raise NotSettledError(wrong[0])
+
+
 def check_entry(scores, entry):
     if not is_index(entry, len(scores)):
         raise InvalidEntryError("an entry is an integer from 0 to less than the number of the scores")
+
+
+def check_place(scores, place):
+    if not is_index(place, len(scores)):
+        raise InvalidNumberError("a place is an integer from 0 to less than the number of the scores")
+
+
+def check_lifts(scores, lifts):
+    if not are_lifts(len(scores), lifts):
+        raise InvalidLiftsError("lifts are a list of 0 to 100 entries")
 
 
 def check_score(score):

@@ -45,6 +45,65 @@ def first_fault(lead, scores, order, walk):
     return None
 
 
+def near(lead, scores, entry, other):
+    return -lead < scores[entry] - scores[other] < lead
+
+
+def all_chains(lead, scores, order, upper):
+    """All chains in the order that begin with an entry, as tuples."""
+    found, ends = [], [(upper,)]
+    while ends:
+        begun = ends.pop()
+        for entry in order[order.index(begun[-1]) + 1:]:
+            if near(lead, scores, begun[-1], entry):
+                found.append(begun + (entry,))
+                ends.append(begun + (entry,))
+    return found
+
+
+def settled_orders(lead, scores):
+    """All settled orders, ascending."""
+    every = [list(order) for order in itertools.permutations(range(len(scores)))]
+    return [order for order in every if not all_wrong(lead, scores, order)]
+
+
+def really_lifted(lead, scores, order, entry):
+    """The order behind a lift: the score is raised, the order settled, the score given back, the order settled."""
+    raised = list(scores)
+    raised[entry] = max(scores) + lead
+    return left_order(lead, scores, left_order(lead, raised, order))
+
+
+def lift_table(lead, scores):
+    """For each settled order (a tuple) and each entry the order behind the lift (a tuple)."""
+    return {tuple(order): [tuple(really_lifted(lead, scores, order, entry)) for entry in range(len(scores))]
+            for order in settled_orders(lead, scores)}
+
+
+def kind_of(lead, scores):
+    """Which entries are close, and which of two others is the greater one: it decides all that is ever left."""
+    return tuple(0 if near(lead, scores, *pair) else 1 if scores[pair[0]] > scores[pair[1]] else -1
+                 for pair in itertools.combinations(range(len(scores)), 2))
+
+
+def kinds_of_rankings(many):
+    """One lead and one list of scores, as a pair, for each kind of rankings of so many entries."""
+    kinds = {}
+    for lead in range(1, many + 1):
+        for scores in itertools.product(range(2 * many), repeat=many):
+            kinds.setdefault(kind_of(lead, scores), (lead, list(scores)))
+    return list(kinds.values())
+
+
+def mixed_kinds_of_rankings(many, seed):
+    """The same, but for each kind only one of those that are alike but for the numbers of their entries."""
+    draw, kinds = random.Random(seed), {}
+    for lead in range(1, many + 1):
+        for scores in itertools.combinations_with_replacement(range(2 * many), many):
+            kinds.setdefault(kind_of(lead, scores), (lead, draw.sample(scores, many)))
+    return list(kinds.values())
+
+
 def chain_leads(lead, scores, order, upper, lower):
     """Whether a chain in the order leads from one entry down to another one."""
     reached = {upper}

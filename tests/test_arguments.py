@@ -3,10 +3,11 @@
 import copy
 import inspect
 import itertools
+import random
 import types
 import unittest
 
-from leadboard import errors, orders, walks
+from leadboard import chains, errors, leads, lifts, orders, walks
 from tests.rankings import HUGE, O, R, S
 
 NO_INTEGERS = [True, False, None, "3", "", "x", 3.0, 1.5, [3], [], (3,), (), {}, {3: 3}, b"3", object()]
@@ -20,32 +21,58 @@ WRONG = {
               [0, 1, 2, 3, 4], [0, 1, 2, 2], [0, 0, 1, 2], [0, 1, 2, 4], [1, 2, 3, 4], [-1, 0, 1, 2], [0, 1, 2, -1],
               [0, 1, 2, HUGE], [[0, 1, 2, 3]], [False, True, 2, 3], object()] + [[0, item, 2, 3] for item in ITEMS],
     "entry": [-1, -4, 4, 5, 28, HUGE, -HUGE] + NO_INTEGERS,
+    "place": [-1, -4, 4, 5, 28, HUGE, -HUGE] + NO_INTEGERS,
     "score": NO_INTEGERS,
+    "lifts": [(1, 2), (), "12", "", None, {}, {1: 2}, {1, 2}, True, False, 0, 4, 1.5, [4], [-1], [0, 1, 2, 3, 4],
+              [1, -4], [HUGE], [1] * 101, [0, 1] * 200, [[1, 2]], [[]], object()] + [[item] for item in ITEMS] +
+             [[1, item, 2] for item in ITEMS] + [[1] * 99 + [item] for item in ITEMS],
     "walk": [(0, 1, 2), "012", None, {}, True, 3, [1], [0, 1, 2, 3], [0, 0], [-1], [3], [False], ["0"], [None], [[0]]],
 }
+
+WRONG["goal"] = WRONG["order"]
+WRONG["other"] = WRONG["upper"] = WRONG["lower"] = WRONG["entry"]
+WRONG["other_lifts"] = WRONG["lifts"]
 
 ERRORS = {
     "lead": errors.InvalidLeadError,
     "scores": errors.InvalidScoresError,
     "order": errors.InvalidOrderError,
     "entry": errors.InvalidEntryError,
+    "place": errors.InvalidNumberError,
     "score": errors.InvalidNumberError,
+    "lifts": errors.InvalidLiftsError,
     "walk": errors.InvalidWalkError,
 }
+ERRORS["goal"] = ERRORS["order"]
+ERRORS["other"] = ERRORS["upper"] = ERRORS["lower"] = ERRORS["entry"]
+ERRORS["other_lifts"] = ERRORS["lifts"]
 
-RIGHT = {"lead": 3, "scores": R, "order": O, "entry": 1, "score": 7, "walk": [0, 1], "value": [0, 1]}
+# The parameters of which an entry is passed, and those of which lifts are.
+ENTRIES = ("entry", "other", "upper", "lower")
+LIFTS = ("lifts", "other_lifts")
+
+RIGHT = {"lead": 3, "scores": R, "order": O, "entry": 1, "score": 7, "walk": [0, 1], "value": [0, 1],
+         "other": 3, "upper": 1, "lower": 3, "place": 2, "goal": [1, 2, 3, 0], "settled": [3, 2, 1, 0],
+         "lifts": [1, 3, 1], "other_lifts": [3, 2]}
 
 # A ranking of which nothing changes, so that an argument itself could be returned by mistake.
-STILL = {"lead": 3, "scores": S, "order": O, "entry": 1, "score": 6, "walk": [], "value": []}
+STILL = {"lead": 3, "scores": S, "order": O, "entry": 1, "score": 6, "walk": [], "value": [],
+         "other": 2, "upper": 1, "lower": 2, "place": 1, "goal": O, "settled": O, "lifts": [], "other_lifts": []}
 
 # A ranking of which no list is ascending.
 MIXED = {"lead": 2, "scores": [6, 4, 10, 8], "order": [3, 2, 0, 1], "entry": 2, "score": 5, "walk": [0],
-         "value": [3, 2, 0, 1]}
+         "value": [3, 2, 0, 1], "other": 0, "upper": 3, "lower": 1, "place": 0, "goal": [2, 3, 0, 1],
+         "settled": [2, 3, 0, 1], "lifts": [3, 2, 0, 1], "other_lifts": [2, 0]}
 
 # A walk that goes upwards.
-UPWARDS = {"lead": 2, "scores": S, "order": O, "entry": 0, "score": HUGE, "walk": [2, 0, 1], "value": [2, 0, 1]}
+UPWARDS = {"lead": 2, "scores": S, "order": O, "entry": 0, "score": HUGE, "walk": [2, 0, 1], "value": [2, 0, 1],
+           "other": 0, "upper": 0, "lower": 0, "place": 3, "goal": [3, 2, 1, 0], "settled": [3, 2, 1, 0],
+           "lifts": [0], "other_lifts": [0]}
 
-SOURCES = [RIGHT, STILL, MIXED, UPWARDS, dict(RIGHT, lead=99, walk=[])]
+# A lead for which all entries are close.
+CLOSE = dict(RIGHT, lead=99, walk=[], goal=[3, 0, 2, 1], lifts=[2, 0, 3], value=[2, 0, 3, 1])
+
+SOURCES = [RIGHT, STILL, MIXED, UPWARDS, CLOSE]
 
 IN_ORDERS = {
     orders.is_scores: ("value",),
@@ -67,7 +94,49 @@ IN_WALKS = {
     walks.turned_pairs: ("lead", "scores", "order"),
 }
 
-FUNCTIONS = {**IN_ORDERS, **IN_WALKS}
+IN_CHAINS = {
+    chains.is_close: ("lead", "scores", "entry", "other"),
+    chains.is_chain: ("lead", "scores", "order", "value"),
+    chains.chain_between: ("lead", "scores", "order", "upper", "lower"),
+    chains.holders_of: ("lead", "scores", "order", "entry"),
+    chains.is_above: ("lead", "scores", "order", "entry", "other"),
+    chains.groups_of: ("lead", "scores"),
+    chains.place_span: ("lead", "scores", "entry"),
+    chains.order_with: ("lead", "scores", "entry", "place"),
+}
+
+IN_LEADS = {
+    leads.least_lead: ("scores", "order"),
+    leads.orders_by_lead: ("scores", "order"),
+    leads.leads_to: ("scores", "order", "goal"),
+}
+
+IN_LIFTS = {
+    lifts.lifted: ("lead", "scores", "order", "entry"),
+    lifts.after_lifts: ("lead", "scores", "order", "lifts"),
+    lifts.must_lift: ("lead", "scores", "order", "goal"),
+    lifts.is_lift_plan: ("lead", "scores", "order", "goal", "value"),
+    lifts.lift_plan: ("lead", "scores", "order", "goal"),
+    lifts.short_lifts: ("lead", "scores", "lifts"),
+    lifts.same_lifts: ("lead", "scores", "lifts", "other_lifts"),
+    lifts.parting_order: ("lead", "scores", "lifts", "other_lifts"),
+    lifts.is_parting: ("lead", "scores", "lifts", "other_lifts", "value"),
+}
+
+MODULES = {orders: IN_ORDERS, walks: IN_WALKS, chains: IN_CHAINS, leads: IN_LEADS, lifts: IN_LIFTS}
+FUNCTIONS = {**IN_ORDERS, **IN_WALKS, **IN_CHAINS, **IN_LEADS, **IN_LIFTS}
+
+
+KINDS = {
+    **dict.fromkeys(("is_scores", "is_order", "is_settled", "is_walk", "is_complete", "is_close", "is_chain",
+                     "is_above", "is_lift_plan", "same_lifts", "is_parting"), (bool,)),
+    **dict.fromkeys(("wrong_places", "settled_order", "walk_orders", "with_score", "with_entry", "order_after",
+                     "turned_pairs", "holders_of", "groups_of", "orders_by_lead", "lifted", "after_lifts",
+                     "must_lift", "lift_plan", "short_lifts"), (list,)),
+    **dict.fromkeys(("chain_between", "order_with", "parting_order"), (list, type(None))),
+    "without_entry": (tuple,), "place_span": (tuple,), "leads_to": (tuple, type(None)),
+    "count_exchanges": (int,), "least_lead": (int,),
+}
 
 
 def answer(function, *values, **named):
@@ -76,8 +145,11 @@ def answer(function, *values, **named):
     return list(returned) if function is orders.walk_orders else returned
 
 
-def given(names, source):
-    return {name: copy.deepcopy(source[name]) for name in names}
+def given(function, source):
+    """The arguments of a function by their names, as copies. Lifts begin with an order that is settled."""
+    if function in IN_LIFTS:
+        source = dict(source, order=source["settled"])
+    return {name: copy.deepcopy(source[name]) for name in FUNCTIONS[function]}
 
 
 def lists_in(value):
@@ -97,16 +169,17 @@ class Interface(unittest.TestCase):
             self.assertEqual(tuple(inspect.signature(function).parameters), names, function)
 
     def test_defined_where_they_are_listed(self):
-        for module, functions in ((orders, IN_ORDERS), (walks, IN_WALKS)):
+        for module, functions in MODULES.items():
             for function in functions:
                 self.assertEqual(function.__module__, module.__name__, function)
 
     def test_by_position_and_by_name(self):
         for function, names in FUNCTIONS.items():
             for source in SOURCES:
-                by_position = answer(function, *given(names, source).values())
-                by_name = answer(function, **given(names, source))
-                backwards = answer(function, **given(reversed(names), source))
+                arguments = given(function, source)
+                by_position = answer(function, *arguments.values())
+                by_name = answer(function, **arguments)
+                backwards = answer(function, **{name: arguments[name] for name in reversed(names)})
                 self.assertEqual(by_position, by_name, function)
                 self.assertEqual(by_position, backwards, function)
 
@@ -124,7 +197,7 @@ class WrongArguments(unittest.TestCase):
         for function, names in FUNCTIONS.items():
             for name in names:
                 for wrong in WRONG.get(name, []):
-                    arguments = given(names, RIGHT)
+                    arguments = given(function, RIGHT)
                     arguments[name] = wrong
                     self.check(function, arguments, name)
 
@@ -134,36 +207,39 @@ class WrongArguments(unittest.TestCase):
             for many in range(2, len(able) + 1):
                 for several in itertools.combinations(able, many):
                     for turn in range(12):
-                        arguments = given(names, RIGHT)
+                        arguments = given(function, RIGHT)
                         for name in several:
                             arguments[name] = WRONG[name][turn % len(WRONG[name])]
                         self.check(function, arguments, several[0])
 
     def test_any_last_value_behind_wrong_ones(self):
-        for value in (None, "x", True, (0, 1), [None], {}, 5, [[0]], object()):
-            for wrong in WRONG["lead"]:
-                self.check(walks.is_walk, {"lead": wrong, "scores": S, "order": O, "value": value}, "lead")
-            for wrong in WRONG["scores"]:
-                self.check(walks.is_walk, {"lead": 3, "scores": wrong, "order": O, "value": value}, "scores")
-                self.check(orders.is_order, {"scores": wrong, "value": value}, "scores")
-            for wrong in WRONG["order"]:
-                self.check(walks.is_walk, {"lead": 3, "scores": S, "order": wrong, "value": value}, "order")
+        for function, names in FUNCTIONS.items():
+            if "value" not in names:
+                continue
+            for value in (None, "x", True, (0, 1), [None], {}, 5, [[0]], object()):
+                for name in names[:-1]:
+                    for wrong in WRONG[name]:
+                        self.check(function, dict(given(function, RIGHT), **{name: wrong, "value": value}), name)
 
     def test_orders_of_other_many_entries(self):
         for function, names in FUNCTIONS.items():
-            if "order" not in names:
-                continue
             for scores, order in (([4], []), ([4], [1]), ([4], [-1]), ([4], [False]), ([4], [0, 1]), ([4, 9], [0]),
                                   ([4, 9], [True, False]), ([4] * 28, list(range(27))), ([4] * 28, list(range(29)))):
-                source = dict(RIGHT, scores=scores, order=order, entry=0)
-                self.check(function, given(names, source), "order")
+                right = list(range(len(scores)))[::-1]
+                source = dict(RIGHT, scores=scores, order=right, settled=right, goal=right, entry=0, value=[])
+                for name in [name for name in ("order", "goal") if name in names]:
+                    self.check(function, dict(given(function, source), **{name: order}), name)
 
     def test_entries_of_other_many_entries(self):
-        for function in (orders.with_score, orders.without_entry):
-            names = FUNCTIONS[function]
-            for many, entry in ((1, 1), (1, -1), (1, True), (1, False), (2, 2), (28, 28), (28, -28)):
-                source = dict(RIGHT, scores=[4] * many, order=list(range(many)), entry=entry)
-                self.check(function, given(names, source), "entry")
+        cases = ((1, 1), (1, -1), (1, True), (1, False), (2, 2), (2, -2), (28, 28), (28, -28), (28, -1))
+        for function, names in FUNCTIONS.items():
+            for many, entry in cases:
+                source = dict(RIGHT, scores=[4] * many, order=list(range(many)), settled=list(range(many)), value=[])
+                source.update({name: 0 for name in ENTRIES + ("place",)}, **{name: [0] for name in LIFTS})
+                for name in [name for name in names if name in ENTRIES + ("place",)]:
+                    self.check(function, dict(given(function, source), **{name: entry}), name)
+                for name in [name for name in names if name in LIFTS]:
+                    self.check(function, dict(given(function, source), **{name: [0, entry]}), name)
 
     def test_too_many_entries_behind_all_other_errors(self):
         right = {"lead": 3, "scores": list(range(28)), "order": list(range(28)), "score": 7}
@@ -185,7 +261,7 @@ class UnchangedArguments(unittest.TestCase):
     def test_right_arguments_stay(self):
         for function, names in FUNCTIONS.items():
             for source in SOURCES:
-                arguments = given(names, source)
+                arguments = given(function, source)
                 before = copy.deepcopy(arguments)
                 answer(function, **arguments)
                 self.assertEqual(arguments, before, function)
@@ -194,7 +270,7 @@ class UnchangedArguments(unittest.TestCase):
         for function, names in FUNCTIONS.items():
             for name in names:
                 for wrong in [one for one in WRONG.get(name, []) if type(one) is not object]:
-                    arguments = given(names, RIGHT)
+                    arguments = given(function, RIGHT)
                     arguments[name] = copy.deepcopy(wrong)
                     before = copy.deepcopy(arguments)
                     with self.assertRaises(errors.BoardError):
@@ -216,7 +292,7 @@ class NewLists(unittest.TestCase):
     def test_no_list_is_an_argument_or_stands_twice(self):
         for function, names in FUNCTIONS.items():
             for source in SOURCES:
-                arguments = given(names, source)
+                arguments = given(function, source)
                 first, second = answer(function, **arguments), answer(function, **arguments)
                 self.assertEqual(first, second)
                 every = lists_in(list(arguments.values()))[1:] + lists_in(first) + lists_in(second)
@@ -225,23 +301,40 @@ class NewLists(unittest.TestCase):
     def test_changed_answers_change_nothing(self):
         for function, names in FUNCTIONS.items():
             for source in SOURCES:
-                arguments = given(names, source)
+                arguments = given(function, source)
                 expected = copy.deepcopy(answer(function, **arguments))
                 for one in lists_in(answer(function, **arguments)):
                     one.clear()
-                self.assertEqual(arguments, given(names, source))
+                self.assertEqual(arguments, given(function, source))
                 self.assertEqual(answer(function, **arguments), expected)
 
     def test_kinds_of_answers(self):
-        kinds = {orders.is_scores: bool, orders.is_order: bool, orders.is_settled: bool, orders.wrong_places: list,
-                 orders.settled_order: list, orders.with_score: list, orders.with_entry: list,
-                 orders.without_entry: tuple, walks.is_walk: bool, walks.order_after: list, walks.is_complete: bool,
-                 walks.count_exchanges: int, walks.turned_pairs: list}
-        for function, kind in kinds.items():
+        for function in FUNCTIONS:
             for source in SOURCES:
-                self.assertIs(type(answer(function, **given(FUNCTIONS[function], source))), kind, function)
+                told = answer(function, **given(function, source))
+                self.assertIn(type(told), KINDS[function.__name__], function)
         scores, order = orders.without_entry(3, S, O, 1)
         self.assertEqual((type(scores), type(order)), (list, list))
+
+
+class Independence(unittest.TestCase):
+
+    def test_calls_do_not_know_of_each_other(self):
+        calls = [(function, number) for function in FUNCTIONS for number in range(len(SOURCES))]
+        expected = {call: answer(call[0], **given(call[0], SOURCES[call[1]])) for call in calls}
+        draw = random.Random(91)
+        for turn in range(4):
+            for function, number in draw.sample(calls, len(calls)):
+                told = answer(function, **given(function, SOURCES[number]))
+                self.assertEqual(told, expected[function, number], function)
+
+    def test_calls_do_not_know_of_errors_ahead(self):
+        for function, names in FUNCTIONS.items():
+            expected = answer(function, **given(function, RIGHT))
+            for name in [name for name in names if name in WRONG]:
+                with self.assertRaises(ERRORS[name]):
+                    answer(function, **dict(given(function, RIGHT), **{name: WRONG[name][0]}))
+                self.assertEqual(answer(function, **given(function, RIGHT)), expected, function)
 
 
 if __name__ == "__main__":

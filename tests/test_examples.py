@@ -1,4 +1,4 @@
-"""The examples of [8], [11] and [12], word for word."""
+"""The examples of [8], [11], [12], [14], [15] and [19], word for word."""
 
 import doctest
 import io
@@ -25,6 +25,33 @@ WALKS = """
 [3, [(0, 1), (0, 2), (0, 3)], 6, [1, 0, 3, 2]]
 """
 
+CHAINS = """
+>>> from leadboard.chains import chain_between, groups_of, holders_of, is_above, is_chain, is_close, order_with, place_span
+>>> S, R, O, G = [4, 6, 8, 10], [4, 9, 8, 10], [0, 1, 2, 3], [4, 6, 8, 10, 20, 19]
+>>> [is_close(3, S, 0, 1), is_close(3, S, 0, 2), chain_between(3, S, O, 0, 3), chain_between(3, R, O, 0, 3), is_chain(3, S, O, [0, 2])]
+[True, False, [0, 1, 2, 3], None, False]
+>>> [holders_of(3, S, O, 2), is_above(3, S, O, 0, 3), is_above(3, R, O, 0, 3), groups_of(3, G), place_span(3, G, 0), order_with(3, G, 0, 1)]
+[[0, 1], True, False, [[4, 5], [0, 1, 2, 3]], (2, 5), None]
+"""
+
+LEADS = """
+>>> from leadboard.leads import least_lead, leads_to, orders_by_lead
+>>> S, R, O = [4, 6, 8, 10], [4, 9, 8, 10], [0, 1, 2, 3]
+>>> [least_lead(S, O), least_lead(R, O), leads_to(R, O, [1, 2, 3, 0]), leads_to(R, O, O), leads_to(S, O, [1, 0, 2, 3])]
+[3, 6, (3, 4), (6, None), None]
+>>> orders_by_lead(R, O)
+[(1, [3, 1, 2, 0]), (2, [1, 3, 2, 0]), (3, [1, 2, 3, 0]), (5, [1, 0, 2, 3]), (6, [0, 1, 2, 3])]
+"""
+
+LIFTS = """
+>>> from leadboard.lifts import after_lifts, is_lift_plan, lift_plan, lifted, must_lift, same_lifts, short_lifts
+>>> S, O = [4, 6, 8, 10], [0, 1, 2, 3]
+>>> [lifted(3, S, O, 1), after_lifts(3, S, O, [1, 3]), must_lift(3, S, O, [3, 1, 2, 0]), lift_plan(3, S, O, [3, 1, 2, 0])]
+[[1, 2, 3, 0], [3, 1, 2, 0], [1, 3], [1, 3]]
+>>> [is_lift_plan(3, S, O, [3, 1, 2, 0], [3, 1]), short_lifts(3, S, [3, 1, 3, 1]), same_lifts(3, S, [0, 1], [1]), same_lifts(3, S, [1, 2], [2, 1])]
+[True, [1, 3], True, False]
+"""
+
 
 class Examples(unittest.TestCase):
 
@@ -40,6 +67,15 @@ class Examples(unittest.TestCase):
 
     def test_walks(self):
         self.run_example("walks", WALKS)
+
+    def test_chains(self):
+        self.run_example("chains", CHAINS)
+
+    def test_leads(self):
+        self.run_example("leads", LEADS)
+
+    def test_lifts(self):
+        self.run_example("lifts", LIFTS)
 
     def test_definitions(self):
         S, R, O = [4, 6, 8, 10], [4, 9, 8, 10], [0, 1, 2, 3]
