@@ -1,11 +1,13 @@
 """Tells whether arguments are what they must be, and raises the error that belongs to each parameter."""
 
-from leadboard.errors import InvalidEntryError, InvalidLeadError, InvalidLiftsError, InvalidNumberError
-from leadboard.errors import InvalidOrderError, InvalidScoresError, NotSettledError
+from leadboard.errors import InvalidChangeError, InvalidEntryError, InvalidLeadError, InvalidLiftsError
+from leadboard.errors import InvalidLocksError, InvalidNumberError, InvalidOrderError, InvalidScoresError
+from leadboard.errors import NotSettledError
 from leadboard.exchanges import wrong_places_of
 
 MOST_ENTRIES = 28
 MOST_LIFTS = 100
+MOST_CHANGES = 20
 
 
 def is_integer(value):
@@ -42,6 +44,13 @@ def are_lifts(many, value):
     if not is_list(value) or len(value) > MOST_LIFTS:
         return False
     return all([is_index(item, many) for item in value])
+
+
+def is_change(many, value):
+    """Whether any value is a tuple of one of the entries from 0 to less than many and an integer."""
+    if type(value) != tuple or len(value) != 2:
+        return False
+    return is_index(value[0], many) and is_integer(value[1])
 
 
 def check_lead(lead):
@@ -83,8 +92,32 @@ def check_lifts(scores, lifts):
 
 
 def check_score(score):
+    """Checks a score, or points that are added to one."""
     if not is_integer(score):
-        raise InvalidNumberError("a score is an integer")
+        raise InvalidNumberError("a score is an integer, and so are points")
+
+
+def check_index(many, index):
+    if not is_index(index, many):
+        raise InvalidNumberError("an index is an integer from 0 to less than the number of what is counted")
+
+
+def check_change(scores, change):
+    if not is_change(len(scores), change):
+        raise InvalidChangeError("a change is a tuple of an entry and an integer")
+
+
+def check_changes(scores, changes):
+    if not is_list(changes) or len(changes) > MOST_CHANGES:
+        raise InvalidChangeError("changes are a list of 0 to 20 tuples")
+    for change in changes:
+        check_change(scores, change)
+
+
+def check_locks(scores, locked):
+    entries = is_list(locked) and all([is_index(item, len(scores)) for item in locked])
+    if not entries or len(set(locked)) != len(locked):
+        raise InvalidLocksError("locked entries are a list of different entries")
 
 
 def check_ranking(lead, scores, order):

@@ -18,6 +18,18 @@ def exchanged(order, place):
     return left
 
 
+def turned(order, left):
+    """The pairs that stand otherwise in the order that is left, as tuples (upper entry at first, other one)."""
+    places = [left.index(entry) for entry in order]
+    return [(order[upper], order[lower]) for lower in range(len(order)) for upper in range(lower)
+            if places[lower] < places[upper]]
+
+
+def rescored(scores, entry, score):
+    """New scores, in which an entry has another one."""
+    return scores[:entry] + [score] + scores[entry + 1:]
+
+
 def settled(lead, scores, order):
     """The order that is left, as a new list."""
     # Any sequence of exchanges leaves the same order, so each entry may rise at its turn,

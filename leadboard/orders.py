@@ -3,7 +3,7 @@
 from leadboard.checks import MOST_ENTRIES
 from leadboard.checks import are_scores, check_entry, check_ranking, check_score, check_scores, is_order_of
 from leadboard.errors import InvalidScoresError
-from leadboard.exchanges import exchanged, settled, wrong_places_of
+from leadboard.exchanges import exchanged, rescored, settled, wrong_places_of
 
 
 def is_scores(value):
@@ -53,7 +53,7 @@ def with_score(lead, scores, order, entry, score):
     check_ranking(lead, scores, order)
     check_entry(scores, entry)
     check_score(score)
-    return settled(lead, scores[:entry] + [score] + scores[entry + 1:], order)
+    return settled(lead, rescored(scores, entry, score), order)
 
 
 def with_entry(lead, scores, order, score):

@@ -2,7 +2,7 @@
 
 from leadboard.checks import check_ranking, is_index, is_list
 from leadboard.errors import InvalidWalkError
-from leadboard.exchanges import exchanged, is_wrong, settled, wrong_places_of
+from leadboard.exchanges import exchanged, is_wrong, settled, turned, wrong_places_of
 
 
 def is_walk(lead, scores, order, value):
@@ -42,6 +42,4 @@ def count_exchanges(lead, scores, order):
 def turned_pairs(lead, scores, order):
     """The ascending list of the pairs that complete walks turn, as tuples (upper entry, other one)."""
     check_ranking(lead, scores, order)
-    left = settled(lead, scores, order)
-    pairs = [(upper, lower) for at, upper in enumerate(order) for lower in order[at + 1:]]
-    return sorted([(upper, lower) for upper, lower in pairs if left.index(lower) < left.index(upper)])
+    return sorted(turned(order, settled(lead, scores, order)))

@@ -7,7 +7,7 @@ import random
 import types
 import unittest
 
-from leadboard import chains, errors, leads, lifts, orders, walks
+from leadboard import chains, counts, errors, leads, lifts, orders, text, walks
 from tests.rankings import HUGE, O, R, S
 
 NO_INTEGERS = [True, False, None, "3", "", "x", 3.0, 1.5, [3], [], (3,), (), {}, {3: 3}, b"3", object()]
@@ -23,6 +23,9 @@ WRONG = {
     "entry": [-1, -4, 4, 5, 28, HUGE, -HUGE] + NO_INTEGERS,
     "place": [-1, -4, 4, 5, 28, HUGE, -HUGE] + NO_INTEGERS,
     "score": NO_INTEGERS,
+    "index": [-1, -6, 6, 7, 24, HUGE, -HUGE] + NO_INTEGERS,
+    "text": ["", " ", "0", "0:", ":4", "0;4", "1:4", "0:4 ", " 0:4", "0:4  1:5", "0:4 0:5", "0:+4", "0:-0", "0:04",
+             b"0:4", ["0:4"], ("0:4",), [("0", "4")], None, True, 4, 1.5, {}, object()],
     "lifts": [(1, 2), (), "12", "", None, {}, {1: 2}, {1, 2}, True, False, 0, 4, 1.5, [4], [-1], [0, 1, 2, 3, 4],
               [1, -4], [HUGE], [1] * 101, [0, 1] * 200, [[1, 2]], [[]], object()] + [[item] for item in ITEMS] +
              [[1, item, 2] for item in ITEMS] + [[1] * 99 + [item] for item in ITEMS],
@@ -40,6 +43,8 @@ ERRORS = {
     "entry": errors.InvalidEntryError,
     "place": errors.InvalidNumberError,
     "score": errors.InvalidNumberError,
+    "index": errors.InvalidNumberError,
+    "text": errors.InvalidFormatError,
     "lifts": errors.InvalidLiftsError,
     "walk": errors.InvalidWalkError,
 }
@@ -53,24 +58,25 @@ LIFTS = ("lifts", "other_lifts")
 
 RIGHT = {"lead": 3, "scores": R, "order": O, "entry": 1, "score": 7, "walk": [0, 1], "value": [0, 1],
          "other": 3, "upper": 1, "lower": 3, "place": 2, "goal": [1, 2, 3, 0], "settled": [3, 2, 1, 0],
-         "lifts": [1, 3, 1], "other_lifts": [3, 2]}
+         "lifts": [1, 3, 1], "other_lifts": [3, 2], "index": 5, "text": "1:-6 0:4 2:8"}
 
 # A ranking of which nothing changes, so that an argument itself could be returned by mistake.
 STILL = {"lead": 3, "scores": S, "order": O, "entry": 1, "score": 6, "walk": [], "value": [],
-         "other": 2, "upper": 1, "lower": 2, "place": 1, "goal": O, "settled": O, "lifts": [], "other_lifts": []}
+         "other": 2, "upper": 1, "lower": 2, "place": 1, "goal": O, "settled": O, "lifts": [], "other_lifts": [],
+         "index": 0, "text": "0:4"}
 
 # A ranking of which no list is ascending.
 MIXED = {"lead": 2, "scores": [6, 4, 10, 8], "order": [3, 2, 0, 1], "entry": 2, "score": 5, "walk": [0],
          "value": [3, 2, 0, 1], "other": 0, "upper": 3, "lower": 1, "place": 0, "goal": [2, 3, 0, 1],
-         "settled": [2, 3, 0, 1], "lifts": [3, 2, 0, 1], "other_lifts": [2, 0]}
+         "settled": [2, 3, 0, 1], "lifts": [3, 2, 0, 1], "other_lifts": [2, 0], "index": 0, "text": "0:0 1:1"}
 
 # A walk that goes upwards.
 UPWARDS = {"lead": 2, "scores": S, "order": O, "entry": 0, "score": HUGE, "walk": [2, 0, 1], "value": [2, 0, 1],
            "other": 0, "upper": 0, "lower": 0, "place": 3, "goal": [3, 2, 1, 0], "settled": [3, 2, 1, 0],
-           "lifts": [0], "other_lifts": [0]}
+           "lifts": [0], "other_lifts": [0], "index": 0, "text": "1:0 0:-1"}
 
 # A lead for which all entries are close.
-CLOSE = dict(RIGHT, lead=99, walk=[], goal=[3, 0, 2, 1], lifts=[2, 0, 3], value=[2, 0, 3, 1])
+CLOSE = dict(RIGHT, lead=99, walk=[], goal=[3, 0, 2, 1], lifts=[2, 0, 3], value=[2, 0, 3, 1], index=23)
 
 SOURCES = [RIGHT, STILL, MIXED, UPWARDS, CLOSE]
 
@@ -123,8 +129,22 @@ IN_LIFTS = {
     lifts.is_parting: ("lead", "scores", "lifts", "other_lifts", "value"),
 }
 
-MODULES = {orders: IN_ORDERS, walks: IN_WALKS, chains: IN_CHAINS, leads: IN_LEADS, lifts: IN_LIFTS}
-FUNCTIONS = {**IN_ORDERS, **IN_WALKS, **IN_CHAINS, **IN_LEADS, **IN_LIFTS}
+IN_COUNTS = {
+    counts.count_settled: ("lead", "scores"),
+    counts.count_with_top: ("lead", "scores", "entry"),
+    counts.nth_settled: ("lead", "scores", "index"),
+    counts.settled_rank: ("lead", "scores", "order"),
+}
+
+IN_TEXT = {
+    text.format_board: ("scores", "order"),
+    text.parse_board: ("text",),
+    text.table_of: ("lead", "scores", "order"),
+}
+
+MODULES = {orders: IN_ORDERS, walks: IN_WALKS, chains: IN_CHAINS, leads: IN_LEADS, lifts: IN_LIFTS, counts: IN_COUNTS,
+           text: IN_TEXT}
+FUNCTIONS = {function: names for functions in MODULES.values() for function, names in functions.items()}
 
 
 KINDS = {
@@ -132,10 +152,11 @@ KINDS = {
                      "is_above", "is_lift_plan", "same_lifts", "is_parting"), (bool,)),
     **dict.fromkeys(("wrong_places", "settled_order", "walk_orders", "with_score", "with_entry", "order_after",
                      "turned_pairs", "holders_of", "groups_of", "orders_by_lead", "lifted", "after_lifts",
-                     "must_lift", "lift_plan", "short_lifts"), (list,)),
+                     "must_lift", "lift_plan", "short_lifts", "nth_settled", "table_of"), (list,)),
     **dict.fromkeys(("chain_between", "order_with", "parting_order"), (list, type(None))),
-    "without_entry": (tuple,), "place_span": (tuple,), "leads_to": (tuple, type(None)),
-    "count_exchanges": (int,), "least_lead": (int,),
+    **dict.fromkeys(("without_entry", "place_span", "parse_board"), (tuple,)),
+    **dict.fromkeys(("count_exchanges", "least_lead", "count_settled", "count_with_top", "settled_rank"), (int,)),
+    "leads_to": (tuple, type(None)), "format_board": (str,),
 }
 
 
@@ -146,8 +167,8 @@ def answer(function, *values, **named):
 
 
 def given(function, source):
-    """The arguments of a function by their names, as copies. Lifts begin with an order that is settled."""
-    if function in IN_LIFTS:
+    """The arguments of a function by their names, as copies. Lifts and ranks begin with an order that is settled."""
+    if function in IN_LIFTS or function is counts.settled_rank:
         source = dict(source, order=source["settled"])
     return {name: copy.deepcopy(source[name]) for name in FUNCTIONS[function]}
 

@@ -1,4 +1,4 @@
-"""The examples of [8], [11], [12], [14], [15] and [19], word for word."""
+"""The examples of [8], [11], [12], [14], [15], [16], [19], [20], [22] and [23], word for word."""
 
 import doctest
 import io
@@ -43,6 +43,15 @@ LEADS = """
 [(1, [3, 1, 2, 0]), (2, [1, 3, 2, 0]), (3, [1, 2, 3, 0]), (5, [1, 0, 2, 3]), (6, [0, 1, 2, 3])]
 """
 
+COUNTS = """
+>>> from leadboard.counts import count_settled, count_with_top, nth_settled, settled_rank
+>>> S = [4, 6, 8, 10]
+>>> [count_settled(3, S), [count_with_top(3, S, entry) for entry in range(4)], count_settled(1, S), count_settled(9, S)]
+[8, [1, 1, 2, 4], 1, 24]
+>>> [nth_settled(3, S, 0), nth_settled(3, S, 2), nth_settled(3, S, 7), settled_rank(3, S, [3, 0, 1, 2])]
+[[0, 1, 2, 3], [2, 3, 0, 1], [3, 2, 1, 0], 4]
+"""
+
 LIFTS = """
 >>> from leadboard.lifts import after_lifts, is_lift_plan, lift_plan, lifted, must_lift, same_lifts, short_lifts
 >>> S, O = [4, 6, 8, 10], [0, 1, 2, 3]
@@ -52,6 +61,31 @@ LIFTS = """
 [True, [1, 3], True, False]
 """
 
+HIDDEN = """
+>>> from leadboard.hidden import HiddenBoard, find
+>>> hidden = HiddenBoard(3, [4, 6, 8, 10], [0, 1, 2, 3])
+>>> [hidden.ask([]), hidden.ask([(1, 1)]), hidden.ask([(1, 9), (1, -9)]), hidden.questions, find(hidden), hidden.entries]
+[[0, 1, 2, 3], [1, 2, 3, 0], [1, 2, 3, 0], 3, (3, [0, 2, 4, 6]), 4]
+"""
+
+BOARDS = """
+>>> from leadboard.boards import Board, LockedCountingBoard
+>>> board = Board(3, [4, 6, 8, 10])
+>>> [board.order, board.set_score(1, 7), board.order, board.tried((0, 99), (2, 0)), board.undo(), board.lift(3), board.order, board.place_of(0)]
+[[0, 1, 2, 3], 0, [1, 2, 3, 0], [0, 3, 1, 2], None, 0, [3, 0, 1, 2], 1]
+>>> board = LockedCountingBoard(3, [4, 9, 8, 10], [2])
+>>> [board.order, board.add_points(0, 9), board.order, board.exchanges, board.lift(0), board.described()]
+[[1, 2, 3, 0], 0, [0, 1, 2, 3], 3, 0, ['entries 4', 'lead 3', 'locked 1', 'exchanges 3']]
+"""
+
+TEXT = """
+>>> from leadboard.text import format_board, parse_board, table_of
+>>> [format_board([4, -6, 8], [1, 0, 2]), parse_board("1:-6 0:4 2:8")]
+['1:-6 0:4 2:8', ([4, -6, 8], [1, 0, 2])]
+>>> table_of(3, [4, -6, 8], [1, 0, 2])
+[' 0   1          -6', ' 1   0           4 ^', ' 2   2           8 ^']
+"""
+
 
 class Examples(unittest.TestCase):
 
@@ -59,7 +93,7 @@ class Examples(unittest.TestCase):
         test = doctest.DocTestParser().get_doctest(text, {}, name, None, 0)
         told = io.StringIO()
         found = doctest.DocTestRunner().run(test, out=told.write)
-        self.assertEqual(found.attempted, 4)
+        self.assertEqual(found.attempted, text.count(">>> "))
         self.assertEqual(found.failed, 0, told.getvalue())
 
     def test_orders(self):
@@ -74,8 +108,20 @@ class Examples(unittest.TestCase):
     def test_leads(self):
         self.run_example("leads", LEADS)
 
+    def test_counts(self):
+        self.run_example("counts", COUNTS)
+
     def test_lifts(self):
         self.run_example("lifts", LIFTS)
+
+    def test_hidden(self):
+        self.run_example("hidden", HIDDEN)
+
+    def test_boards(self):
+        self.run_example("boards", BOARDS)
+
+    def test_text(self):
+        self.run_example("text", TEXT)
 
     def test_definitions(self):
         S, R, O = [4, 6, 8, 10], [4, 9, 8, 10], [0, 1, 2, 3]

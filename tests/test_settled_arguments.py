@@ -1,15 +1,16 @@
-"""[5] and [17]: an order and a goal that must be settled."""
+"""[5], [16] and [17]: an order and a goal that must be settled."""
 
 import copy
 import itertools
 import unittest
 
 from leadboard import errors
+from leadboard.counts import settled_rank
 from leadboard.lifts import after_lifts, is_lift_plan, lift_plan, lifted, must_lift
 from tests.rankings import O, R, S, all_wrong, drawn_rankings, left_order
 
-# What stands behind the order, right and wrong: every function of lifts that begins with a settled order.
-BEHIND = [(lifted, {"entry": 1}, {"entry": 4}), (after_lifts, {"lifts": [1]}, {"lifts": [4]})]
+# What stands behind the order, right and wrong: every function with one order that must be settled.
+BEHIND = [(lifted, {"entry": 1}, {"entry": 4}), (after_lifts, {"lifts": [1]}, {"lifts": [4]}), (settled_rank, {}, {})]
 WITH_GOAL = [must_lift, lift_plan, is_lift_plan]
 
 
@@ -40,6 +41,7 @@ class NotSettled(unittest.TestCase):
         place, left = all_wrong(lead, scores, order)[0], left_order(lead, scores, order)
         self.check(lifted, {"lead": lead, "scores": scores, "order": order, "entry": 0}, place)
         self.check(after_lifts, {"lead": lead, "scores": scores, "order": order, "lifts": []}, place)
+        self.check(settled_rank, {"lead": lead, "scores": scores, "order": order}, place)
         for function in WITH_GOAL:
             self.check(function, arguments_of(function, lead, scores, order, left), place)
             self.check(function, arguments_of(function, lead, scores, left, order), place)
@@ -89,7 +91,13 @@ class NotSettled(unittest.TestCase):
         for function, right, wrong in BEHIND:
             for lead, scores, kind in ((0, S, errors.InvalidLeadError), (1, None, errors.InvalidScoresError)):
                 for behind in (right, wrong):
-                    self.check_other(kind, function, dict({"lead": lead, "scores": scores, "order": O}, **behind))
+                    for order in (O, [0, 1, 2, 2]):
+                        ranking = {"lead": lead, "scores": scores, "order": order}
+                        self.check_other(kind, function, dict(ranking, **behind))
+            for behind in (right, wrong):
+                for order in ([0, 1, 2], (3, 2, 1, 0), None, [0, 1, 2, True], [0, 1, 2, 2]):
+                    ranking = {"lead": 1, "scores": S, "order": order}
+                    self.check_other(errors.InvalidOrderError, function, dict(ranking, **behind))
         for function in WITH_GOAL:
             self.check_other(errors.InvalidLeadError, function, arguments_of(function, True, S, O, O))
             self.check_other(errors.InvalidScoresError, function, arguments_of(function, 1, [True, 1, 2, 3], O, O))
